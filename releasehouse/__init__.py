@@ -1,0 +1,1 @@
+"""Releasehouse: from an edit to what runs."""
