@@ -13,6 +13,16 @@ FUNCTIONS = {
         "places": "tree",
     },
     "packages": {"solved": "registry goals", "refutes": "registry goals paper"},
+    "building": {
+        "built": "tree facts registry", "traces": "tree facts registry", "rebuilt": "tree facts registry store",
+        "failing": "tree facts registry",
+    },
+    "proofs": {"trace_holds": "trace", "paper_holds": "tree facts registry paper"},
+    "reach": {
+        "unturned": "old new facts registry", "reach": "old new facts registry",
+        "why": "tree facts registry name paths",
+    },
+    "owners": {"approvals": "tree path", "approved": "old new author given"},
 }
 CLASSES = {
     "errors": {

@@ -106,6 +106,7 @@ class LanguageTest(unittest.TestCase):
                     graph[file.stem].append(name)
                     other = ast.parse((FOLDER / (name + ".py")).read_text(encoding="utf-8"))
                     defined = {part.name for part in other.body if isinstance(part, (ast.FunctionDef, ast.ClassDef))}
+                    defined |= {part.targets[0].id for part in other.body if isinstance(part, ast.Assign)}
                     self.assertLessEqual({alias.name for alias in node.names}, defined, file)
                     self.assertEqual([alias.asname for alias in node.names], [None] * len(node.names), file)
         done = []

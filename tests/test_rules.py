@@ -25,7 +25,8 @@ WRONG = (
     "if line line line line", "has line", "file", "file A", "file a/", "file a/b/c/d/e", "file a b", "each", "each /a",
     "names 1a", "pack", "pack a/b", "pack P", "version a/b", "version", "set", "set a/b", "set A", "lit",
     "lit " + "x" * 41, "lit  ", "lit a b", "cat line  line", "dep", "dep A", "dep a/b", "dep none", "read a",
-    "line cat line", "line not", "lit a up", "file a if line line", "Line", "x", "not " * 60 + "line", "cat " * 30 + "line " * 30 + "line", "file a23456789012x",
+    "line cat line", "line not", "lit a up", "file a if line line", "Line", "x", "not " * 60 + "line",
+    "cat " * 30 + "line " * 30 + "line", "file a23456789012x",
 )
 
 
