@@ -1,7 +1,7 @@
 """What comes of looking at an expression, when the values of its readings are known."""
 
 from releasehouse.expressions import BEHIND, NAMED, steps_of
-from releasehouse.values import is_row, is_shown
+from releasehouse.values import is_row, is_signs
 
 MOST_SIGNS = 5000
 YES = "ok"
@@ -12,17 +12,12 @@ BAD_WORDS = ("file", "pack", "dep", "long")
 LACKS = {"file": "file", "pack": "pack", "version": "pack"}
 
 
-def is_signs(value):
-    """Tell whether the value is a string of no signs but those of contents."""
-    return isinstance(value, str) and is_shown(value.replace("\n", ""))
-
-
 def is_result(value):
     """Tell whether the value is a result as targets have them."""
     if not is_row(value, 2):
         return False
     if value[0] == "made":
-        return is_signs(value[1]) and len(value[1]) <= MOST_SIGNS
+        return is_signs(value[1], MOST_SIGNS)
     return value[0] == "bad" and value[1] in BAD_WORDS
 
 

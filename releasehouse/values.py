@@ -49,11 +49,14 @@ def is_path(value):
     return len(words) <= MOST_PATH_WORDS and all([is_word(word) for word in words])
 
 
+def is_signs(value, most):
+    """Tell whether the value is a string of at most so many signs, all such as contents have."""
+    return isinstance(value, str) and len(value) <= most and is_shown(value.replace("\n", ""))
+
+
 def is_content(value):
     """Tell whether the value is a content."""
-    if not isinstance(value, str) or len(value) > MOST_CONTENT_SIGNS:
-        return False
-    return is_shown(value.replace("\n", ""))
+    return is_signs(value, MOST_CONTENT_SIGNS)
 
 
 def is_ascending(keys):
