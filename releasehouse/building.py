@@ -4,7 +4,7 @@ from releasehouse.errors import BadValue
 from releasehouse.looking import looked, passes
 from releasehouse.proofs import reads_alike, trace_holds
 from releasehouse.values import is_sequence, plain
-from releasehouse.worlds import values_at, world_of
+from releasehouse.worlds import values_at, world_at, world_of
 
 
 def built(tree, facts, registry):
@@ -23,7 +23,8 @@ def rebuilt(tree, facts, registry, store):
     world = world_of(tree, facts, registry)
     if not is_sequence(store):
         raise BadValue(4)
-    return renewed(world, tuple([plain(trace) for trace in store if trace_holds(trace)]))
+    kept = {plain(trace): True for trace in store if trace_holds(trace)}
+    return renewed(world, tuple(kept))
 
 
 def failing(tree, facts, registry):
@@ -45,11 +46,29 @@ def failing_of(world, results):
 
 
 def renewed(world, kept):
-    """Return (results, fresh names, store) for a tuple of plain traces that all hold."""
+    """Return (results, fresh names, store) for a tuple of plain traces that all hold, each once."""
     pairs, fresh = traced(world, kept)
-    # The traces of names that are not fresh are among the kept ones.
-    store = {trace: True for trace in kept + tuple([pair[1] for pair in pairs])}
-    return (results_of(pairs), fresh, tuple(store))
+    # A fresh name's trace is not among the kept ones, but two fresh names may have the same.
+    trace_of = dict(pairs)
+    added = {trace_of[name]: True for name in fresh}
+    return (results_of(pairs), fresh, kept + tuple(added))
+
+
+def tested(source, places, kept):
+    """Return (the first place and test that does not pass, or None; store; how many names were fresh).
+
+    The places are triples as `places` returns them. What is kept is handed on from one to the next.
+    """
+    count = 0
+    store = kept
+    for place, _, facts in places:
+        world = world_at(source, facts)
+        results, fresh, store = renewed(world, store)
+        count += len(fresh)
+        failed = failing_of(world, results)
+        if failed:
+            return ((place, failed[0]), store, count)
+    return (None, store, count)
 
 
 def traced(world, kept):

@@ -54,3 +54,11 @@ def places(tree):
     """Return the places (name, wave, facts), ascending by wave, then by name."""
     check_tree(tree, 1)
     return read_places(tree.files)
+
+
+def place_named(tree, name):
+    """Return the place (name, wave, facts) of this name in a tree whose places are right, or None."""
+    for place in read_places(tree.files):
+        if place[0] == name:
+            return place
+    return None

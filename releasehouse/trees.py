@@ -55,8 +55,16 @@ def is_edit(value):
 def edited(tree, edit):
     """Return the tree that the edit makes of the tree."""
     check_tree(tree, 1)
-    if not is_edit(edit):
+    made = tree_made(tree, edit)
+    if made is None:
         raise BadValue(2)
+    return made
+
+
+def tree_made(tree, edit):
+    """Return the tree that the edit makes of the tree, or None if the value is no edit for it."""
+    if not is_edit(edit):
+        return None
     contents = dict(tree.files)
     for change in edit:
         if change[0] == "put":
@@ -64,7 +72,7 @@ def edited(tree, edit):
         else:
             contents.pop(change[1], None)
     if len(contents) > MOST_FILES:
-        raise BadValue(2)
+        return None
     return Tree([(path, contents[path]) for path in sorted(contents)])
 
 

@@ -9,6 +9,16 @@ from releasehouse.trees import check_tree
 from releasehouse.values import is_facts
 
 
+class Source:
+    """The row of rules of a tree, and what there is to read for it, whatever the facts."""
+
+    def __init__(self, contents, row, settings, chosen):
+        self.contents = contents
+        self.row = row
+        self.settings = settings
+        self.chosen = chosen
+
+
 class World:
     """The row of rules of a tree, and what their readings find."""
 
@@ -38,6 +48,16 @@ def world_of(tree, facts, registry):
     check_tree(tree, 1)
     check_facts(facts, 2)
     check_registry(registry, 3)
+    return world_at(source_of(tree, registry), facts)
+
+
+def world_at(source, facts):
+    """Return the world that a source makes with these facts."""
+    return World(source.contents, source.row, settle(source.settings, facts), source.chosen)
+
+
+def source_of(tree, registry):
+    """Return the source of a tree; BadFile for its first wrong line, or NoSolution."""
     row, wanted, settings = told_of(tree)
     word, more = solved(registry, wanted)
     if word == "none":
@@ -47,7 +67,7 @@ def world_of(tree, facts, registry):
     for name, version, _, content in registry:
         if versions.get(name) == version:
             chosen[name] = (version, content)
-    return World(dict(tree.files), row, settle(settings, facts), chosen)
+    return Source(dict(tree.files), row, settings, chosen)
 
 
 def values_at(world, expression, results):

@@ -1,6 +1,7 @@
 """What several tests use: wrong values of every kind, and how errors are asked for."""
 
-from releasehouse.errors import BadFile, BadValue
+from releasehouse.errors import BadFile, BadSyntax, BadValue, NoSolution
+from releasehouse.packages import refutes
 from releasehouse.trees import Tree
 
 
@@ -23,10 +24,10 @@ ODD = [
 
 
 def plain_only(value):
-    """Tell whether a value has no sequences but plain tuples, at every level."""
+    """Tell whether a value has no sequences but plain tuples, at every level; Trees may stand in it."""
     if isinstance(value, tuple):
         return type(value) is tuple and all(plain_only(part) for part in value)
-    return type(value) in (int, str, bool, type(None))
+    return type(value) in (int, str, bool, type(None), Tree)
 
 
 def listed(value):
@@ -38,7 +39,33 @@ def listed(value):
 
 def one_file(path, *lines):
     """Return a tree of one file with these lines, each ended."""
-    return Tree(((path, "".join(line + "\n" for line in lines)),))
+    return Tree(((path, ended(*lines)),))
+
+
+def ended(*lines):
+    """Return the lines, each ended, as one string."""
+    return "".join(line + "\n" for line in lines)
+
+
+def tree_with(files, **more):
+    """Return the tree of a dict of files, with those more; a name x_y is the path x/y, None drops it."""
+    both = {**files, **{name.replace("_", "/"): content for name, content in more.items()}}
+    return Tree(tuple((path, content) for path, content in sorted(both.items()) if content is not None))
+
+
+def edit_to(**more):
+    """Return the edit that puts these files; a name x_y is the path x/y, None drops it."""
+    named = sorted((name.replace("_", "/"), content) for name, content in more.items())
+    return tuple(("drop", path) if content is None else ("put", path, content) for path, content in named)
+
+
+def with_files(value):
+    """Return the value with what tells of a Tree in place of each Tree."""
+    if isinstance(value, Tree):
+        return f"Tree({value.files!r})"
+    if type(value) in (list, tuple):
+        return type(value)([with_files(part) for part in value])
+    return value
 
 
 class Asking:
@@ -54,7 +81,18 @@ class Asking:
             function(*values)
         self.assertEqual((caught.exception.path, caught.exception.at), (path, at), values)
 
+    def bad_syntax(self, at, function, *values):
+        with self.assertRaises(BadSyntax) as caught:
+            function(*values)
+        self.assertEqual(caught.exception.at, at, values)
+
+    def no_solution(self, registry, wanted, function, *values):
+        """There is no solution, and what is raised shows it for these goals."""
+        with self.assertRaises(NoSolution) as caught:
+            function(*values)
+        self.assertTrue(refutes(registry, wanted, caught.exception.paper))
+
     def same(self, got, wanted):
         """The same value, of the same kinds: 1 is not True, a list is no tuple."""
         self.assertEqual(got, wanted)
-        self.assertEqual(repr(got), repr(wanted))
+        self.assertEqual(repr(with_files(got)), repr(with_files(wanted)))
