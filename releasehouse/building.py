@@ -2,7 +2,8 @@
 
 from releasehouse.errors import BadValue
 from releasehouse.looking import looked, passes
-from releasehouse.proofs import reads_alike, trace_holds
+from releasehouse.proofs import trace_holds
+from releasehouse.stores import Store, fitting
 from releasehouse.values import is_sequence, plain
 from releasehouse.worlds import values_at, world_at, world_of
 
@@ -14,7 +15,7 @@ def built(tree, facts, registry):
 
 def traces(tree, facts, registry):
     """Return the pairs (name, trace) of all targets and tests."""
-    pairs, _ = traced(world_of(tree, facts, registry), ())
+    pairs, _ = traced(world_of(tree, facts, registry), Store())
     return pairs
 
 
@@ -23,14 +24,15 @@ def rebuilt(tree, facts, registry, store):
     world = world_of(tree, facts, registry)
     if not is_sequence(store):
         raise BadValue(4)
-    kept = {plain(trace): True for trace in store if trace_holds(trace)}
-    return renewed(world, tuple(kept))
+    after = Store([plain(trace) for trace in store if trace_holds(trace)])
+    results, fresh = renewed(world, after)
+    return (results, fresh, tuple(after.kept))
 
 
 def failing(tree, facts, registry):
     """Return the names of the tests that do not pass."""
     world = world_of(tree, facts, registry)
-    pairs, _ = traced(world, ())
+    pairs, _ = traced(world, Store())
     return failing_of(world, results_of(pairs))
 
 
@@ -45,51 +47,46 @@ def failing_of(world, results):
     return tuple([name for word, name, _ in world.row if word == "test" and not passes(result_of[name])])
 
 
-def renewed(world, kept):
-    """Return (results, fresh names, store) for a tuple of plain traces that all hold, each once."""
-    pairs, fresh = traced(world, kept)
-    # A fresh name's trace is not among the kept ones, but two fresh names may have the same.
+def renewed(world, store):
+    """Return (results, fresh names) of a world, and put the traces of the fresh names into the store."""
+    pairs, fresh = traced(world, store)
     trace_of = dict(pairs)
-    added = {trace_of[name]: True for name in fresh}
-    return (results_of(pairs), fresh, kept + tuple(added))
+    for name in fresh:
+        store.put(trace_of[name])
+    return (results_of(pairs), fresh)
 
 
-def tested(source, places, kept):
-    """Return (the first place and test that does not pass, or None; store; how many names were fresh).
+def tested(source, places, store):
+    """Return (the first place and test that does not pass, or None; how many names were fresh).
 
-    The places are triples as `places` returns them. What is kept is handed on from one to the next.
+    The places are triples as `places` returns them. Traces are taken from the store, and put into it.
     """
     count = 0
-    store = kept
     for place, _, facts in places:
         world = world_at(source, facts)
-        results, fresh, store = renewed(world, store)
+        results, fresh = renewed(world, store)
         count += len(fresh)
         failed = failing_of(world, results)
         if failed:
-            return ((place, failed[0]), store, count)
-    return (None, store, count)
+            return ((place, failed[0]), count)
+    return (None, count)
 
 
-def traced(world, kept):
-    """Return the pairs (name, trace) of a world, and the names that no kept trace fits.
+def traced(world, store):
+    """Return the pairs (name, trace) of a world, and the names that no trace of the store fits.
 
-    Kept is a tuple of plain traces that all hold. What one of them fits is
-    not looked at anew.
+    What a trace of the store fits is not looked at anew.
     """
-    kept_by_expression = {}
-    for trace in kept:
-        kept_by_expression.setdefault(trace[0], []).append(trace)
     pairs = []
     fresh = []
     results = {}
     for _, name, expression in world.row:
         values = values_at(world, expression, results)
-        fitting = [trace for trace in kept_by_expression.get(expression, ()) if reads_alike(trace, values)]
-        if not fitting:
+        trace = fitting(store, expression, values)
+        if trace is None:
             readings, result = looked(expression, values)
-            fitting.append((expression, readings, result))
+            trace = (expression, readings, result)
             fresh.append(name)
-        results[name] = fitting[0][2]
-        pairs.append((name, fitting[0]))
+        results[name] = trace[2]
+        pairs.append((name, trace))
     return (tuple(pairs), tuple(fresh))

@@ -7,6 +7,7 @@ from releasehouse.landing import MOST_TREES, tried
 from releasehouse.owners import is_given
 from releasehouse.packages import MOST_PACKAGES, check_registry, is_package
 from releasehouse.rollouts import Rollout, shown, stepped, turn_back
+from releasehouse.stores import Store
 from releasehouse.trees import check_tree, tree_made
 from releasehouse.values import is_integer, is_word, plain
 from releasehouse.worlds import source_of
@@ -25,7 +26,7 @@ class House:
         if wrong is not None:
             raise BadFile(wrong[0], wrong[1])
         # What these tests look at is not kept: the store is empty at first.
-        failed, _, _ = tested(source_of(tree, registry), places(tree), ())
+        failed, _ = tested(source_of(tree, registry), places(tree), Store())
         if failed is not None:
             raise BadValue(1)
         self._history = [tree]
@@ -35,7 +36,7 @@ class House:
         self._proposals_landed = []
         self._row = []
         self._releases = []
-        self._store = ()
+        self._store = Store()
         self._work = 0
         self._runs = {}
         self._rollout = None
@@ -109,7 +110,7 @@ class House:
         if not self._row:
             return "none"
         proposal = self._row.pop(0)
-        answer, self._store, count = tried(self._history[-1], self._registry, proposal, self._store)
+        answer, count = tried(self._history[-1], self._registry, proposal, self._store)
         self._work += count
         word, more = answer
         if word == "landed":

@@ -7,6 +7,7 @@ from releasehouse.looking import passes
 from releasehouse.owners import approved_by, is_given
 from releasehouse.packages import check_registry, is_registry
 from releasehouse.rows import read_approvals
+from releasehouse.stores import Store
 from releasehouse.trees import Tree, check_tree, merged, touched, tree_made
 from releasehouse.values import is_row, is_sequence, is_word
 from releasehouse.worlds import source_of
@@ -21,7 +22,7 @@ def landing(head, registry, proposal):
     check_registry(registry, 2)
     if not is_proposal(proposal):
         raise BadValue(3)
-    answer, _, _ = tried(head, registry, proposal, ())
+    answer, _ = tried(head, registry, proposal, Store())
     return answer
 
 
@@ -47,8 +48,9 @@ def land_all(head, registry, proposals):
         raise BadValue(3)
     trees = [head]
     answers = []
+    store = Store()
     for proposal in proposals:
-        answer, _, _ = tried(trees[-1], registry, proposal, ())
+        answer, _ = tried(trees[-1], registry, proposal, store)
         answers.append(answer)
         if answer[0] == "landed":
             trees.append(answer[1])
@@ -91,31 +93,29 @@ def is_landing(value):
     return is_row(value, 2) and is_registry(value[0]) and is_proposal(value[1])
 
 
-def tried(head, registry, proposal, kept):
-    """Return (what `landing` returns, store, how many names were fresh in its tests).
+def tried(head, registry, proposal, store):
+    """Return (what `landing` returns, how many names were fresh in its tests).
 
-    Kept is a store of plain traces that all hold, each once; the tests take from it what fits.
+    The tests take traces from the store, and put those of the fresh names into it.
     """
     base, edit, author, given = proposal
     word, more = merged(base, head, tree_made(base, edit))
     if word == "clash":
-        return ((word, more), kept, 0)
+        return ((word, more), 0)
     tree = more
     wrong = check(tree)
     if wrong is not None:
-        return (("file", wrong), kept, 0)
+        return (("file", wrong), 0)
     sides = (_lines_asked(head), read_approvals(tree.files))
     word, line = approved_by(sides, touched(head, tree), author, given)
     if word == "no":
-        return (("own", line), kept, 0)
+        return (("own", line), 0)
     try:
         source = source_of(tree, registry)
     except NoSolution as lack:
-        return (("packs", lack.paper), kept, 0)
-    failed, store, count = tested(source, places(tree), kept)
-    if failed is not None:
-        return (("test", failed), store, count)
-    return (("landed", tree), store, count)
+        return (("packs", lack.paper), 0)
+    failed, count = tested(source, places(tree), store)
+    return (("landed", tree) if failed is None else ("test", failed), count)
 
 
 def _lines_asked(head):

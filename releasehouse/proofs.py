@@ -3,6 +3,7 @@
 from releasehouse.expressions import is_expression
 from releasehouse.looking import is_result, looked, pairs_of
 from releasehouse.packages import is_version
+from releasehouse.stores import reads_alike
 from releasehouse.values import is_ascending, is_content, is_path, is_row, is_sequence, is_word, plain
 from releasehouse.worlds import values_at, world_of
 
@@ -48,11 +49,6 @@ def paper_holds(tree, facts, registry, paper):
             return False
         results[name] = trace[2]
     return True
-
-
-def reads_alike(trace, values):
-    """Tell whether the readings of a trace that holds have these values of its expression."""
-    return all([values[(word, name)] == value for word, name, value in trace[1]])
 
 
 def is_reading(value):

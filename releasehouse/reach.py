@@ -3,6 +3,7 @@
 from releasehouse.building import traced
 from releasehouse.errors import BadValue
 from releasehouse.packages import check_registry
+from releasehouse.stores import Store
 from releasehouse.trees import check_tree
 from releasehouse.values import is_ascending, is_path, is_sequence
 from releasehouse.worlds import check_facts, told_of, world_of
@@ -50,14 +51,14 @@ def _worlds(old, new, facts, registry):
 
 def _words_and_traces(world):
     """Return for each name of a world, in the order of its row, its word and its trace."""
-    pairs, _ = traced(world, ())
+    pairs, _ = traced(world, Store())
     trace_of = dict(pairs)
     return {name: (word, trace_of[name]) for word, name, _ in world.row}
 
 
 def _pairs_read(world, name):
     """Return the pairs (word, name) of all readings for a name, and for targets that it reads."""
-    traces_read, _ = traced(world, ())
+    traces_read, _ = traced(world, Store())
     trace_of = dict(traces_read)
     met = {name: True}
     waiting = [name]
