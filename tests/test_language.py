@@ -39,6 +39,7 @@ WORDS = re.compile(
 BARRED = (
     ast.AsyncFunctionDef, ast.AsyncFor, ast.AsyncWith, ast.Await, ast.Import, ast.Div, ast.MatMult, ast.TryStar,
 )
+CHANGING = ("append", "clear", "extend", "insert", "pop", "remove", "reverse", "setdefault", "update")
 LIST_TAKERS = ("any", "all", "min", "max", "sum", "sorted")
 LIBRARY = ("heapq", "math", "itertools", "collections")
 
@@ -53,6 +54,11 @@ def trees():
 
 def nodes(kinds):
     return [(file, node) for file, tree in trees() for node in ast.walk(tree) if isinstance(node, kinds)]
+
+
+def methods_of():
+    """Return the methods of all classes."""
+    return [part for _, node in nodes(ast.ClassDef) for part in node.body if isinstance(part, ast.FunctionDef)]
 
 
 def code_only(file):
@@ -150,6 +156,53 @@ class LanguageTest(unittest.TestCase):
                 self.assertTrue(text in ("property", "staticmethod", "classmethod") or text.endswith(".setter"), file)
             if node.name.startswith("__"):
                 self.assertIn(node.name.strip("_"), DOUBLE, file)
+
+    def test_l5_properties_change_nothing(self):
+        functions = {node.name for _, node in nodes(ast.FunctionDef) if not node.decorator_list}
+        for file, node in nodes(ast.FunctionDef):
+            if [ast.unparse(decorator) for decorator in node.decorator_list] == ["property"]:
+                self.assertNotIn(node.name, {part.name for part in methods_of()} - {node.name}, file)
+                self.assertNotIn(node.name, METHODS, file)
+                self.assertEqual([argument.arg for argument in node.args.args], ["self"], file)
+                stored = [part for part in ast.walk(node) if isinstance(part, (ast.Attribute, ast.Subscript))
+                          and not isinstance(part.ctx, ast.Load)]
+                self.assertEqual(stored, [], (file, node.name))
+                for call in [part for part in ast.walk(node) if isinstance(part, ast.Call)]:
+                    self.assertIsInstance(call.func, ast.Name, (file, node.name))
+                    self.assertIn(call.func.id, functions | BUILTINS, (file, node.name))
+
+    def test_l5_class_methods(self):
+        for file, node in nodes(ast.FunctionDef):
+            if [ast.unparse(decorator) for decorator in node.decorator_list] in (["classmethod"], ["staticmethod"]):
+                self.assertEqual([part.name for part in methods_of()].count(node.name), 1, file)
+                for part in ast.walk(node):
+                    self.assertFalse(isinstance(part, (ast.Yield, ast.YieldFrom)), file)
+
+    def test_l18_no_name_is_a_method_and_an_attribute_of_one_class(self):
+        for file, node in nodes(ast.ClassDef):
+            names = [part.name for part in node.body if isinstance(part, ast.FunctionDef)]
+            self.assertEqual(len(names), len(set(names)), file)
+            attributes = {part.attr for part in ast.walk(node) if isinstance(part, ast.Attribute)
+                          and isinstance(part.ctx, ast.Store)}
+            self.assertFalse(attributes & set(names), (file, node.name))
+
+    def test_l18_attributes_are_assigned_by_the_package_and_through_local_names(self):
+        stored = [node for _, node in nodes(ast.Attribute) if isinstance(node.ctx, ast.Store)]
+        for node in stored:
+            self.assertIsInstance(node.value, ast.Name, node.lineno)
+        known = {node.attr for node in stored} | {part.name for part in methods_of()}
+        for file, tree in trees():
+            called = [node.func for node in ast.walk(tree) if isinstance(node, ast.Call)]
+            for node in ast.walk(tree):
+                if isinstance(node, ast.Attribute) and node not in called:
+                    self.assertIn(node.attr, known, (file, node.lineno))
+
+    def test_l23_what_a_loop_goes_over_is_not_changed_in_it(self):
+        for file, node in nodes(ast.For):
+            over = {ast.unparse(part) for part in ast.walk(node.iter) if isinstance(part, (ast.Name, ast.Attribute))}
+            for call in [part for body in node.body for part in ast.walk(body) if isinstance(part, ast.Call)]:
+                if isinstance(call.func, ast.Attribute) and call.func.attr in CHANGING:
+                    self.assertNotIn(ast.unparse(call.func.value), over, (file, node.lineno))
 
     def test_l6_l7_statements_and_expressions(self):
         for file, node in nodes(BARRED):
